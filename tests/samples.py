@@ -1,0 +1,79 @@
+"""What several tests share: a case that knows errors, and rivers and rights to try things on."""
+
+import random
+import unittest
+
+from weirkeepers.rights import Rights
+from weirkeepers.rivers import River
+
+ODD_VALUES = [None, True, False, 0, 1, -1, 10 ** 39, "", "A", "a b", "seaa", "nine letters", [], ["a"], (), ("a",),
+              ("a", "sea"), [["a", ["b", None]]], "\n", "a1", " a", "abcdefghi"]
+
+
+class Case(unittest.TestCase):
+    """A test case that compares errors by class and attributes."""
+
+    def fails(self, wanted, call, *rest, **more):
+        """The call raises just the error that is wanted."""
+        with self.assertRaises(type(wanted)) as caught:
+            call(*rest, **more)
+        self.assertIs(type(caught.exception), type(wanted))
+        self.assertEqual(repr(vars(caught.exception)), repr(vars(wanted)))
+
+    def equals_nothing_else(self, thing, *others):
+        """The thing is equal to itself, and to none of the others and no value of another kind."""
+        self.assertTrue(thing == thing)
+        for other in list(others) + ODD_VALUES:
+            self.assertFalse(thing == other, other)
+            self.assertTrue(thing != other, other)
+
+
+def name_of(number):
+    """A name of one or two letters."""
+    letters = "abcdefghijklmnopqrstuvwxyz"
+    return letters[number] if number < 26 else letters[number // 26] + letters[number % 26]
+
+
+def some_river(dice, most=10):
+    """A river of 1 to `most` weirs, its rows in any order."""
+    size = dice.randint(1, most)
+    rows = []
+    for number in range(size):
+        low = dice.randint(-1 if dice.random() < 0.2 else max(0, number - 3), max(number - 1, 0))
+        rows.append((name_of(number), "sea" if number == 0 or low < 0 else name_of(low)))
+    dice.shuffle(rows)
+    return River(rows)
+
+
+def some_rights(dice, most_weirs=10, most=10):
+    """Rights over some river, of 0 to `most` rows."""
+    river = some_river(dice, most_weirs)
+    rows = []
+    for number in range(dice.randint(0, most)):
+        intake = dice.choice(river.weirs)
+        last = dice.choice(river.course(intake) + ("sea",))
+        rows.append((name_of(number), intake, last))
+    dice.shuffle(rows)
+    return Rights(river, rows)
+
+
+def many_rights(count, most_weirs=10, most=10):
+    """A list of `count` different rights, always the same ones."""
+    dice = random.Random(count)
+    return [some_rights(dice, most_weirs, most) for _ in range(count)]
+
+
+def long_river():
+    """A river of 40 weirs in one course; the first row is the deepest weir."""
+    names = [name_of(number) for number in range(40)]
+    return River(list(zip(names, names[1:] + ["sea"])))
+
+
+def fork():
+    """The river of the example: d runs to c, and b and c run to a."""
+    return River([("a", "sea"), ("b", "a"), ("c", "a"), ("d", "c")])
+
+
+def fork_rights():
+    """Rights over the fork: p and q share c, r is over b alone, s and sea end at a."""
+    return Rights(fork(), [("p", "d", "c"), ("q", "c", "sea"), ("r", "b", "b"), ("s", "b", "a"), ("sea", "d", "d")])

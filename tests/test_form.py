@@ -1,0 +1,188 @@
+"""The form of the package: what of the rules of its language a reader of the code can check."""
+
+import ast
+import builtins
+import pathlib
+import unittest
+
+PACKAGE = pathlib.Path(__file__).resolve().parent.parent / "weirkeepers"
+FILES = sorted(PACKAGE.glob("*.py"))
+BUILTINS = {
+    "len", "range", "enumerate", "zip", "min", "max", "sum", "abs", "sorted", "reversed", "int", "str", "bool", "list",
+    "tuple", "dict", "set", "isinstance", "any", "all", "divmod", "iter", "super", "property", "classmethod",
+    "staticmethod", "ValueError", "TypeError", "NotImplemented",
+}
+METHODS = {
+    "__init__", "__eq__", "__len__", "__iter__", "__contains__", "__getitem__", "__add__",
+}
+DECORATORS = {"property", "classmethod", "staticmethod"}
+BARRED = {
+    "type", "typing", "enum", "Enum", "Flag", "Generic", "Protocol", "ABC", "namedtuple", "mro", "register",
+    "elements", "open", "input", "law", "compile", "copyright", "dir", "eval", "exec", "exit", "gc", "globals", "help",
+    "id", "license", "locals", "os", "quit", "sys", "vars",
+}
+INTERFACE = {
+    "errors": {"WeirError": [], "NotLedger": ["__init__"], "TooMany": ["__init__"]},
+    "rivers": {"is_name": None, "River": [
+        "__init__", "__len__", "__iter__", "__contains__", "__eq__", "rows", "below", "above", "course", "depth",
+        "upstream", "is_down", "meeting", "way", "downward"]},
+    "rights": {"Rights": [
+        "__init__", "__len__", "__iter__", "__contains__", "__eq__", "rows", "intake", "last", "is_given_back", "way",
+        "passes", "passing", "begin_at", "end_at", "matrix", "only", "joined"]},
+    "charts": {"read_chart": None, "write_chart": None, "chart_table": None},
+    "meetings": {"meet": None, "met_by": None, "common": None, "pairs": None},
+    "removal": {"removal_order": None, "removal_fault": None, "crowds": None},
+    "turns": {"fullest": None, "turns": None, "apart": None, "guards": None},
+    "halves": {"halves": None, "weir_halves": None, "spread": None},
+}
+
+
+def trees():
+    """Each file of the package with its tree."""
+    return [(path, ast.parse(path.read_text(encoding="utf-8"))) for path in FILES]
+
+
+def nodes(*kinds):
+    """Each node of one of these kinds, with where it stands."""
+    return [(f"{path.name}:{node.lineno}", node)
+            for path, tree in trees() for node in ast.walk(tree) if isinstance(node, kinds)]
+
+
+def bound_names():
+    """Each name that is a variable, a parameter, a function, a class or an import, with where it stands."""
+    found = [(where, node.id) for where, node in nodes(ast.Name) if isinstance(node.ctx, ast.Store)]
+    found += [(where, node.arg) for where, node in nodes(ast.arg)]
+    found += [(where, node.name) for where, node in nodes(ast.FunctionDef, ast.ClassDef)]
+    for where, node in nodes(ast.ImportFrom):
+        found += [(where, alias.asname or alias.name) for alias in node.names]
+    return found
+
+
+class FormTest(unittest.TestCase):
+
+    def test_the_folder_holds_plain_files_alone(self):
+        for path in PACKAGE.iterdir():
+            self.assertTrue(path.name == "__pycache__" or path.suffix == ".py", path)
+
+    def test_sizes_and_characters(self):
+        for path in FILES:
+            text = path.read_text(encoding="utf-8")
+            lines = text.split("\n")
+            self.assertLessEqual(len(lines), 400, path)
+            self.assertLessEqual(max(len(line) for line in lines), 120, path)
+            self.assertEqual([sign for sign in text if not (sign == "\n" or " " <= sign <= "~")], [], path)
+        for where, node in nodes(ast.FunctionDef):
+            self.assertLessEqual(node.end_lineno - node.lineno + 1, 40, where)
+
+    def test_imports(self):
+        allowed = {f"weirkeepers.{path.stem}" for path in FILES if path.stem != "__init__"}
+        defined = {f"weirkeepers.{path.stem}": set() for path in FILES}
+        for path, tree in trees():
+            for node in tree.body:
+                if isinstance(node, (ast.FunctionDef, ast.ClassDef)):
+                    defined[f"weirkeepers.{path.stem}"].add(node.name)
+                if isinstance(node, ast.Assign):
+                    defined[f"weirkeepers.{path.stem}"].add(node.targets[0].id)
+        self.assertEqual(nodes(ast.Import), [])
+        for where, node in nodes(ast.ImportFrom):
+            self.assertIn(node.module, allowed, where)
+            self.assertEqual(node.level, 0, where)
+            for alias in node.names:
+                self.assertIn(alias.name, defined[node.module], where)
+                self.assertIsNone(alias.asname, where)
+
+    def test_imports_do_not_go_round(self):
+        needs = {path.stem: {node.module.split(".")[1] for node in ast.walk(tree) if isinstance(node, ast.ImportFrom)}
+                 for path, tree in trees()}
+        while needs:
+            free = [stem for stem in needs if not needs[stem] & set(needs)]
+            self.assertTrue(free, needs)
+            for stem in free:
+                del needs[stem]
+
+    def test_every_import_is_used(self):
+        for path, tree in trees():
+            used = {node.id for node in ast.walk(tree) if isinstance(node, ast.Name)}
+            for node in ast.walk(tree):
+                if isinstance(node, ast.ImportFrom):
+                    self.assertEqual([alias.name for alias in node.names if alias.name not in used], [], path)
+
+    def test_module_level(self):
+        for path, tree in trees():
+            for place, node in enumerate(tree.body):
+                docstring = place == 0 and isinstance(node, ast.Expr) and isinstance(node.value, ast.Constant)
+                kinds = (ast.ImportFrom, ast.FunctionDef, ast.ClassDef, ast.Assign)
+                self.assertTrue(docstring or isinstance(node, kinds), f"{path.name}:{node.lineno}")
+
+    def test_functions_and_classes(self):
+        for where, node in nodes(ast.FunctionDef, ast.ClassDef):
+            self.assertIn(ast.get_docstring(node) is None, [False, node.name in METHODS], where)
+            for decorator in node.decorator_list:
+                self.assertIn(decorator.id, DECORATORS, where)
+            if node.name.startswith("__"):
+                self.assertIn(node.name, METHODS, where)
+
+    def test_only_plain_statements_and_expressions(self):
+        barred = (ast.Global, ast.Nonlocal, ast.AsyncFunctionDef, ast.Await, ast.NamedExpr, ast.Lambda,
+                  ast.GeneratorExp, ast.Try, ast.With, ast.Match, ast.Starred, ast.AugAssign, ast.Assert, ast.AnnAssign)
+        self.assertEqual([where for where, _ in nodes(*barred)], [])
+        for where, node in nodes(ast.Constant):
+            self.assertIsInstance(node.value, (int, str, type(None)), where)
+            if isinstance(node.value, str):
+                self.assertNotIn("%", node.value, where)
+        for where, node in nodes(ast.BinOp):
+            self.assertNotIsInstance(node.op, ast.Div, where)
+            if isinstance(node.op, ast.Pow):
+                self.assertIsInstance(node.right, ast.Constant, where)
+
+    def test_builtins(self):
+        known = set(vars(builtins))
+        for where, node in nodes(ast.Name):
+            if node.id in known:
+                self.assertIn(node.id, BUILTINS, where)
+        for where, name in bound_names():
+            self.assertNotIn(name, known | BARRED, where)
+            self.assertFalse(name.startswith("__") and name not in METHODS, where)
+
+    def test_no_local_name_hides_a_class_or_an_import(self):
+        for path, tree in trees():
+            outer = {alias.name for node in tree.body if isinstance(node, ast.ImportFrom) for alias in node.names}
+            outer |= {node.name for node in tree.body if isinstance(node, (ast.ClassDef, ast.FunctionDef))}
+            inner = {node.id for node in ast.walk(tree) if isinstance(node, ast.Name)
+                     and isinstance(node.ctx, ast.Store)}
+            inner |= {node.arg for node in ast.walk(tree) if isinstance(node, ast.arg)}
+            self.assertEqual(inner & outer, set(), path)
+
+    def test_is_stands_beside_none_alone(self):
+        for where, node in nodes(ast.Compare):
+            for sign, right in zip(node.ops, node.comparators):
+                if isinstance(sign, (ast.Is, ast.IsNot)):
+                    self.assertTrue(isinstance(right, ast.Constant) and right.value is None, where)
+
+    def test_errors_are_made_where_they_are_raised(self):
+        for where, node in nodes(ast.Raise):
+            self.assertIsInstance(node.exc, ast.Call, where)
+            self.assertIsInstance(node.exc.func, ast.Name, where)
+
+    def test_attributes_and_methods_have_different_names(self):
+        for where, node in nodes(ast.ClassDef):
+            methods = {row.name for row in node.body if isinstance(row, ast.FunctionDef)}
+            stored = {thing.attr for thing in ast.walk(node)
+                      if isinstance(thing, ast.Attribute) and isinstance(thing.ctx, ast.Store)}
+            self.assertEqual(methods & stored, set(), where)
+            self.assertEqual(len(methods), len([row for row in node.body if isinstance(row, ast.FunctionDef)]), where)
+
+    def test_the_interface_stands_in_its_files(self):
+        found = {path.stem: {node.name: node for node in tree.body if isinstance(node, (ast.FunctionDef, ast.ClassDef))}
+                 for path, tree in trees()}
+        for stem, names in INTERFACE.items():
+            for name, methods in names.items():
+                node = found[stem][name]
+                self.assertIsInstance(node, ast.FunctionDef if methods is None else ast.ClassDef)
+                if methods:
+                    own = {row.name for row in node.body if isinstance(row, ast.FunctionDef)}
+                    self.assertEqual(set(methods) - own, set(), name)
+
+
+if __name__ == "__main__":
+    unittest.main()

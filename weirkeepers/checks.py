@@ -1,0 +1,45 @@
+"""The checks that several files share."""
+
+from weirkeepers.errors import NoRight, NoWeir
+
+MOST_CUBES = 10 ** 30
+
+
+def is_whole(value, most):
+    """True if the value is an integer from 0 to `most`; True and False are none."""
+    if not isinstance(value, int) or isinstance(value, bool):
+        return False
+    return 0 <= value <= most
+
+
+def is_cubes(value):
+    """True if the value is a number of cubes."""
+    return is_whole(value, MOST_CUBES)
+
+
+def need_weir(river, weir):
+    """Raises NoWeir if the river has no such weir."""
+    if weir not in river:
+        raise NoWeir(weir)
+
+
+def need_right(rights, name):
+    """Raises NoRight if there is no such right."""
+    if name not in rights:
+        raise NoRight(name)
+
+
+def need_rights(rights, names):
+    """Raises NoRight for the first of the names that is no right."""
+    for name in names:
+        need_right(rights, name)
+
+
+def need_different(rights, names):
+    """Raises NoRight for the first of the names that is no right or occurs earlier."""
+    seen = {}
+    for name in names:
+        # Only a right is looked up: another value may be a list, which can be no key.
+        if name not in rights or name in seen:
+            raise NoRight(name)
+        seen[name] = True
