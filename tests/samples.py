@@ -13,7 +13,7 @@ ODD_VALUES = [None, True, False, 0, 1, -1, 10 ** 39, "", "A", "a b", "seaa", "ni
 class Case(unittest.TestCase):
     """A test case that compares errors by class and attributes."""
 
-    def fails(self, wanted, call, *rest, **more):
+    def fails(self, wanted, call, /, *rest, **more):
         """The call raises just the error that is wanted."""
         with self.assertRaises(type(wanted)) as caught:
             call(*rest, **more)
@@ -77,3 +77,21 @@ def fork():
 def fork_rights():
     """Rights over the fork: p and q share c, r is over b alone, s and sea end at a."""
     return Rights(fork(), [("p", "d", "c"), ("q", "c", "sea"), ("r", "b", "b"), ("s", "b", "a"), ("sea", "d", "d")])
+
+
+def some_cubes(dice, keys, most=6):
+    """A dict from some of the keys to cubes, added in any order."""
+    chosen = [key for key in keys if dice.random() < 0.8]
+    dice.shuffle(chosen)
+    return {key: dice.randint(0, most) for key in chosen}
+
+
+def some_orders(dice, rights):
+    """An order for each weir that some right passes, and for some of the others."""
+    orders = {}
+    for weir in rights.river:
+        names = list(rights.passing(weir))
+        dice.shuffle(names)
+        if names or dice.random() < 0.5:
+            orders[weir] = dice.choice([list, tuple])(names)
+    return orders

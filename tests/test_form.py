@@ -21,19 +21,69 @@ BARRED = {
     "elements", "open", "input", "law", "compile", "copyright", "dir", "eval", "exec", "exit", "gc", "globals", "help",
     "id", "license", "locals", "os", "quit", "sys", "vars",
 }
+# Each file with its functions and classes; behind each method and function its parameters.
 INTERFACE = {
-    "errors": {"WeirError": [], "NotLedger": ["__init__"], "TooMany": ["__init__"]},
-    "rivers": {"is_name": None, "River": [
-        "__init__", "__len__", "__iter__", "__contains__", "__eq__", "rows", "below", "above", "course", "depth",
-        "upstream", "is_down", "meeting", "way", "downward"]},
-    "rights": {"Rights": [
-        "__init__", "__len__", "__iter__", "__contains__", "__eq__", "rows", "intake", "last", "is_given_back", "way",
-        "passes", "passing", "begin_at", "end_at", "matrix", "only", "joined"]},
-    "charts": {"read_chart": None, "write_chart": None, "chart_table": None},
-    "meetings": {"meet": None, "met_by": None, "common": None, "pairs": None},
-    "removal": {"removal_order": None, "removal_fault": None, "crowds": None},
-    "turns": {"fullest": None, "turns": None, "apart": None, "guards": None},
-    "halves": {"halves": None, "weir_halves": None, "spread": None},
+    "errors": {
+        "WeirError": {},
+        "NotRiver": {"__init__": "self place"},
+        "NotBook": {"__init__": "self cause weir name"},
+        "NotLedger": {"__init__": "self place cause"},
+    },
+    "rivers": {
+        "is_name": "value",
+        "River": {
+            "__init__": "self rows", "__len__": None, "__iter__": None, "__contains__": None, "__eq__": None,
+            "rows": "self", "below": "self weir", "above": "self weir", "course": "self weir", "depth": "self weir",
+            "upstream": "self weir", "is_down": "self high low", "meeting": "self one other",
+            "way": "self intake last", "downward": "self"},
+    },
+    "rights": {
+        "Rights": {
+            "__init__": "self river rows", "__len__": None, "__iter__": None, "__contains__": None, "__eq__": None,
+            "rows": "self", "intake": "self name", "last": "self name", "is_given_back": "self name",
+            "way": "self name", "passes": "self name weir", "passing": "self weir", "begin_at": "self weir",
+            "end_at": "self weir", "matrix": "self", "only": "self *names", "joined": "self row"},
+    },
+    "charts": {"read_chart": "text", "write_chart": "rights", "chart_table": "rights"},
+    "meetings": {
+        "meet": "rights one other", "met_by": "rights name", "common": "rights names", "pairs": "rights"},
+    "removal": {"removal_order": "rights", "removal_fault": "rights names", "crowds": "rights"},
+    "turns": {"fullest": "rights", "turns": "rights", "apart": "rights", "guards": "rights"},
+    "halves": {"halves": "rights names", "weir_halves": "river weirs", "spread": "rights cubes * halvings=1"},
+    "lines": {
+        "line_pairs": "rights names", "line_up": "rights ahead", "goes_round": "names ahead",
+        "shrunk": "rights names ahead"},
+    "springs": {
+        "Springs": {
+            "__init__": "self river springs fish", "__add__": None, "__eq__": None, "spring": "self weir",
+            "fish": "self weir", "natural": "self weir", "water": "self weir", "short": "self", "waters": "self"},
+        "springs_for": "river waters",
+    },
+    "days": {
+        "Day": {
+            "__init__": "self rights calls waters * call=0 water=0", "__eq__": None, "of": "cls rights calls springs",
+            "call": "self name", "water": "self weir", "calls": "self", "waters": "self", "within": "self other",
+            "with_call": "self name cubes", "with_water": "self weir cubes", "only": "self *names",
+            "rained": "self weir cubes", "widened": "self weir cubes"},
+    },
+    "sharings": {
+        "Sharing": {
+            "__init__": "self rights cubes", "__getitem__": None, "__len__": None, "__iter__": None, "__add__": None,
+            "__eq__": None, "total": "self", "use": "self weir", "cubes": "self", "lacking": "self day",
+            "full": "self day", "within": "self other"},
+        "unfit": "day sharing",
+        "fits": "day sharing",
+    },
+    "waterwalk": {"water_walk": "springs sharing"},
+    "topup": {"top_up": "springs sharing"},
+    "daytext": {"read_day": "rights text", "write_day": "day"},
+    "promises": {"Promise": {"__init__": "self giver taker weir=None", "__eq__": None, "said": "self rights"}},
+    "books": {
+        "Book": {
+            "__init__": "self rights orders promises=()", "__eq__": None, "orders": "self",
+            "goes_ahead": "self weir one other", "ahead_at": "self weir name", "ranked": "self weir",
+            "bent": "self *promises", "moved": "self weir name place", "alike": "cls rights line promises=()"},
+    },
 }
 
 
@@ -172,16 +222,24 @@ class FormTest(unittest.TestCase):
             self.assertEqual(methods & stored, set(), where)
             self.assertEqual(len(methods), len([row for row in node.body if isinstance(row, ast.FunctionDef)]), where)
 
+    def check_definition(self, node, wanted):
+        """The node defines the function or class that the interface wants."""
+        if isinstance(wanted, dict):
+            self.assertIsInstance(node, ast.ClassDef)
+            own = {row.name: row for row in node.body if isinstance(row, ast.FunctionDef)}
+            for name, parameters in wanted.items():
+                self.check_definition(own[name], parameters)
+            return
+        self.assertIsInstance(node, ast.FunctionDef)
+        if wanted is not None:
+            self.assertEqual(ast.unparse(node.args), wanted.replace(" ", ", "), node.name)
+
     def test_the_interface_stands_in_its_files(self):
         found = {path.stem: {node.name: node for node in tree.body if isinstance(node, (ast.FunctionDef, ast.ClassDef))}
                  for path, tree in trees()}
         for stem, names in INTERFACE.items():
-            for name, methods in names.items():
-                node = found[stem][name]
-                self.assertIsInstance(node, ast.FunctionDef if methods is None else ast.ClassDef)
-                if methods:
-                    own = {row.name for row in node.body if isinstance(row, ast.FunctionDef)}
-                    self.assertEqual(set(methods) - own, set(), name)
+            for name, wanted in names.items():
+                self.check_definition(found[stem][name], wanted)
 
 
 if __name__ == "__main__":

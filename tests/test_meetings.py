@@ -44,6 +44,7 @@ class MeetingsTest(Case):
             self.fails(NoRight(value), meet, rights, value, "nobody")
             self.fails(NoRight(value), meet, rights, "p", value)
             self.fails(NoRight(value), met_by, rights, value)
+            self.fails(NoRight(value), met_by, Rights(fork(), []), value)
             self.fails(NoRight(value), common, rights, ["p", "p", value, "nobody"])
 
     def test_against_the_definitions(self):

@@ -3,6 +3,7 @@
 from weirkeepers.errors import NoRight, NoWeir
 
 MOST_CUBES = 10 ** 30
+LONGEST_NUMERAL = 31
 
 
 def is_whole(value, most):
@@ -15,6 +16,13 @@ def is_whole(value, most):
 def is_cubes(value):
     """True if the value is a number of cubes."""
     return is_whole(value, MOST_CUBES)
+
+
+def is_numeral(word):
+    """True if the word is "0", or 1 to 31 digits without a leading zero."""
+    if not 1 <= len(word) <= LONGEST_NUMERAL or not all(["0" <= digit <= "9" for digit in word]):
+        return False
+    return word == "0" or word[0] != "0"
 
 
 def need_weir(river, weir):

@@ -5,10 +5,9 @@ from weirkeepers.checks import need_right, need_rights
 
 def meet(rights, one, other):
     """The tuple of the weirs that both rights pass, upstream first."""
-    need_right(rights, one)
-    need_right(rights, other)
-    way = rights.way(other)
-    return tuple([weir for weir in rights.way(one) if weir in way])
+    way = rights.way(one)
+    other_way = rights.way(other)
+    return tuple([weir for weir in way if weir in other_way])
 
 
 def met_by(rights, name):
