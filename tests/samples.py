@@ -3,6 +3,10 @@
 import random
 import unittest
 
+from weirkeepers.books import Book
+from weirkeepers.days import Day
+from weirkeepers.meetings import pairs
+from weirkeepers.promises import Promise
 from weirkeepers.rights import Rights
 from weirkeepers.rivers import River
 
@@ -95,3 +99,67 @@ def some_orders(dice, rights):
         if names or dice.random() < 0.5:
             orders[weir] = dice.choice([list, tuple])(names)
     return orders
+
+
+def some_promises(dice, rights, most=6):
+    """Promises of rights that meet, none of which contradicts another."""
+    rows = list(pairs(rights))
+    promises = []
+    for one, other, weir in dice.sample(rows, min(len(rows), most)):
+        giver, taker = dice.choice([(one, other), (other, one)])
+        promises.append(Promise(giver, taker, dice.choice([None, weir])))
+    return promises
+
+
+def one_weir(*names):
+    """A river of one weir with these rights."""
+    return Rights(River([("w", "sea")]), [(name, "w", "w") for name in names])
+
+
+def some_book(dice, rights):
+    """A book whose weirs rank by one line, by orders of their own, or by a line with promises."""
+    line = list(rights.names)
+    dice.shuffle(line)
+    sort = dice.randint(0, 3)
+    if sort == 0:
+        return Book.alike(rights, line)
+    if sort == 1:
+        return Book.alike(rights, line, some_promises(dice, rights, 2))
+    return Book(rights, some_orders(dice, rights), some_promises(dice, rights) if sort == 2 else ())
+
+
+def some_day(dice, rights, most=6):
+    """A day with calls and waters up to `most`."""
+    calls = {name: dice.randint(0, most) for name in rights}
+    return Day(rights, calls, {weir: dice.randint(0, most) for weir in rights.river})
+
+
+def crowded_rights(dice, most_weirs=6, most=6):
+    """Rights over a river of one course, most of which pass most of its weirs."""
+    size = dice.randint(1, most_weirs)
+    names = [name_of(number) for number in range(size)]
+    river = River(dice.sample(list(zip(names, names[1:] + ["sea"])), size))
+    rows = []
+    for number in range(dice.randint(2, max(2, most))):
+        intake = dice.choice([names[0], names[0], dice.choice(names)])
+        rows.append((name_of(number), intake, dice.choice(["sea", "sea", dice.choice(river.course(intake))])))
+    return Rights(river, dice.sample(rows, len(rows)))
+
+
+def many_books(count, most_weirs=6, most=6, cubes=4):
+    """A list of (dice, book, day): `count` different ones, always the same."""
+    dice = random.Random(count)
+    rights = [(some_rights, crowded_rights)[number % 2](dice, most_weirs, most) for number in range(count)]
+    return [(dice, some_book(dice, row), some_day(dice, row, cubes)) for row in rights]
+
+
+def around(weir="w"):
+    """A book of one weir at which a goes ahead of b, b of c, and c of a."""
+    rights = Rights(River([(weir, "sea")]), [(name, weir, "sea") for name in "abc"])
+    return Book.alike(rights, ["a", "b", "c"], [Promise("a", "c")])
+
+
+def unlike():
+    """A book of two weirs, low below up, that rank a and b the other way round; b is ahead at low."""
+    rights = Rights(River([("up", "low"), ("low", "sea")]), [("a", "up", "sea"), ("b", "up", "sea")])
+    return Book(rights, {"up": ["a", "b"], "low": ["b", "a"]})

@@ -4,7 +4,8 @@ import itertools
 import random
 import unittest
 
-from tests.samples import Case, ODD_VALUES, fork, fork_rights, long_river, many_rights, some_orders
+from tests.samples import (Case, ODD_VALUES, fork, fork_rights, long_river, many_rights, one_weir, some_orders,
+                           some_promises)
 from weirkeepers.books import Book
 from weirkeepers.errors import NoRight, NotBook, NoWeir
 from weirkeepers.meetings import pairs
@@ -13,21 +14,6 @@ from weirkeepers.rights import Rights
 from weirkeepers.rivers import River
 
 ORDERS = {"a": ("s", "q"), "b": ("r", "s"), "c": ("q", "p"), "d": ("sea", "p")}
-
-
-def some_promises(dice, rights, most=6):
-    """Promises of rights that meet, none of which contradicts another."""
-    rows = list(pairs(rights))
-    promises = []
-    for one, other, weir in dice.sample(rows, min(len(rows), most)):
-        giver, taker = dice.choice([(one, other), (other, one)])
-        promises.append(Promise(giver, taker, dice.choice([None, weir])))
-    return promises
-
-
-def one_weir(*names):
-    """A river of one weir with these rights."""
-    return Rights(River([("w", "sea")]), [(name, "w", "w") for name in names])
 
 
 class WrongBookTest(Case):

@@ -6,11 +6,14 @@ MOST_CUBES = 10 ** 30
 LONGEST_NUMERAL = 31
 
 
+def is_natural(value):
+    """True if the value is an integer from 0; True and False are none."""
+    return isinstance(value, int) and not isinstance(value, bool) and value >= 0
+
+
 def is_whole(value, most):
-    """True if the value is an integer from 0 to `most`; True and False are none."""
-    if not isinstance(value, int) or isinstance(value, bool):
-        return False
-    return 0 <= value <= most
+    """True if the value is an integer from 0 to `most`."""
+    return is_natural(value) and value <= most
 
 
 def is_cubes(value):

@@ -35,7 +35,7 @@ def _line(rights, told):
     return line
 
 
-def _turned(one, two, three, told):
+def turned(one, two, three, told):
     """The round of these three that starts with the first of them, or None."""
     if (one, two) in told and (two, three) in told and (three, one) in told:
         return one, two, three
@@ -49,7 +49,7 @@ def _ring_at(names, told):
     for place, one in enumerate(names):
         for at in range(place + 1, len(names)):
             for three in names[at + 1:]:
-                ring = _turned(one, names[at], three, told)
+                ring = turned(one, names[at], three, told)
                 if ring is not None:
                     return ring
     return None
