@@ -12,6 +12,11 @@ from weirkeepers.rivers import River
 
 ODD_VALUES = [None, True, False, 0, 1, -1, 10 ** 39, "", "A", "a b", "seaa", "nine letters", [], ["a"], (), ("a",),
               ("a", "sea"), [["a", ["b", None]]], "\n", "a1", " a", "abcdefghi"]
+# Values that are no column of a table with the one weir w.
+ODD_COLUMNS = ODD_VALUES + [("weir", "sea"), ("weir",), ["weir", "w"], ("weir", "w", "w"), ("weir", "zz"),
+                            ("call", "zz"), ("right", "zz"), ("right", ["a"]), ("left", "a"), "w", ("a", "right"),
+                            (("weir", "w"),), ("weir", "w "), ("weir", None), ("call", 1), ("right", "w")]
+W = ("weir", "w")
 
 
 class Case(unittest.TestCase):
@@ -163,3 +168,47 @@ def unlike():
     """A book of two weirs, low below up, that rank a and b the other way round; b is ahead at low."""
     rights = Rights(River([("up", "low"), ("low", "sea")]), [("a", "up", "sea"), ("b", "up", "sea")])
     return Book(rights, {"up": ["a", "b"], "low": ["b", "a"]})
+
+
+def three_ends():
+    """A book and a day with three ends, the sharings of which differ."""
+    river = River([("b", "c"), ("c", "sea"), ("a", "b")])
+    rights = Rights(river, [("a", "a", "b"), ("b", "b", "c"), ("c", "a", "sea"), ("d", "a", "b")])
+    day = Day(rights, {"a": 2, "b": 2, "c": 9, "d": 12}, {"b": 18, "c": 9, "a": 18})
+    return Book(rights, {"a": "acd", "b": "bdca", "c": "cb"}), day
+
+
+def call(name):
+    """The call gate of a right."""
+    return ("call", name)
+
+
+def right(name):
+    """The column of a right."""
+    return ("right", name)
+
+
+def two_day():
+    """A day of one weir w with 1 cube, for which a and b call with 1 each."""
+    return Day(one_weir("a", "b"), {}, {}, call=1, water=1)
+
+
+def example():
+    """The book and the day at the end of section 7."""
+    book = unlike()
+    return book, Day(book.rights, {}, {}, call=2, water=2)
+
+
+def two_knots():
+    """A book and a day with two knots, of a and c on one branch, and of d and b on another; e is not loose."""
+    river = River([("low", "mid"), ("up", "low"), ("mid", "sea"), ("hi", "mid")])
+    rights = Rights(river, [("a", "up", "low"), ("d", "hi", "sea"), ("c", "up", "low"), ("e", "low", "sea"),
+                            ("b", "hi", "mid")])
+    book = Book(rights, {"up": "ac", "low": "eca", "hi": "db", "mid": "ebd"})
+    return book, Day(rights, {"a": 2, "c": 2, "d": 1, "b": 1, "e": 3}, {"up": 1, "low": 4, "hi": 1, "mid": 4})
+
+
+def far():
+    """A book and a day with a room above 4096: the two may share 10 ** 30 cubes in any way."""
+    book = unlike()
+    return book, Day(book.rights, {}, {}, call=10 ** 30, water=10 ** 30)

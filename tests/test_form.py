@@ -16,6 +16,7 @@ METHODS = {
     "__init__", "__eq__", "__len__", "__iter__", "__contains__", "__getitem__", "__add__",
     "__call__",
 }
+LIBRARY = {"math": {"comb"}}
 DECORATORS = {"property", "classmethod", "staticmethod"}
 BARRED = {
     "type", "typing", "enum", "Enum", "Flag", "Generic", "Protocol", "ABC", "namedtuple", "mro", "register",
@@ -114,6 +115,46 @@ INTERFACE = {
     "unrest": {
         "tier": "book name", "calm": "book", "restless": "book", "calm_amounts": "book day",
         "rest_by": "book name * gap late=0", "Unrest": {"__eq__": None}, "unrest": "book name"},
+    "table": {
+        "Table": {"__init__": "self day", "__eq__": None, "limit": "self gate", "entry": "self gate column"},
+        "Standing": {
+            "__eq__": None, "figure": "self one column", "level": "self column", "measure": "self column",
+            "is_sound": "self", "pivoted": "self column"},
+        "first_standing": "table",
+        "standing_of": "table columns",
+    },
+    "ladders": {
+        "Ladders": {
+            "__init__": "self book table", "__eq__": None, "ladder": "self gate", "is_above": "self gate one other"},
+        "Hold": {
+            "__eq__": None, "low": "self gate", "gate_of": "self column", "holder": "self column",
+            "pivoted": "self column"},
+        "hold_of": "ladders columns",
+        "first_hold": "ladders door",
+    },
+    "walk": {
+        "Walk": {
+            "__init__": "self book day", "is_end": "self columns", "road": "self door begin=None",
+            "sharing": "self columns", "holders": "self columns"},
+        "Road": {"__len__": None, "__iter__": None},
+        "walked": "book day * door=None",
+    },
+    "ends": {"ends": "book day", "paired": "book day door", "reached": "book day"},
+    "knots": {
+        "room": "book day", "steady": "book day", "Knot": {"__len__": None, "__contains__": None, "__eq__": None},
+        "knots": "book day", "why_none": "book day"},
+    "listing": {
+        "settled_sharings": "book day", "how_many": "book day",
+        "Listing": {
+            "__init__": "self book day", "__len__": None, "__iter__": None, "__getitem__": None, "__contains__": None,
+            "__eq__": None, "places": "self name cubes"},
+    },
+    "wheels": {
+        "need_settled": "book day sharing", "wheel": "book day one other", "is_wheel": "book day one other thing"},
+    "sureness": {
+        "sure": "book day", "possible": "book day", "unsure": "book day",
+        "best_for": "book day *names least=False", "regrets": "book day sharing", "fairest": "book day",
+        "sure_table": "book day"},
 }
 
 
@@ -156,7 +197,7 @@ class FormTest(unittest.TestCase):
 
     def test_imports(self):
         allowed = {f"weirkeepers.{path.stem}" for path in FILES if path.stem != "__init__"}
-        defined = {f"weirkeepers.{path.stem}": set() for path in FILES}
+        defined = {f"weirkeepers.{path.stem}": set() for path in FILES} | LIBRARY
         for path, tree in trees():
             for node in tree.body:
                 if isinstance(node, (ast.FunctionDef, ast.ClassDef)):
@@ -165,14 +206,14 @@ class FormTest(unittest.TestCase):
                     defined[f"weirkeepers.{path.stem}"].add(node.targets[0].id)
         self.assertEqual(nodes(ast.Import), [])
         for where, node in nodes(ast.ImportFrom):
-            self.assertIn(node.module, allowed, where)
+            self.assertIn(node.module, allowed | set(LIBRARY), where)
             self.assertEqual(node.level, 0, where)
             for alias in node.names:
                 self.assertIn(alias.name, defined[node.module], where)
                 self.assertIsNone(alias.asname, where)
 
     def test_imports_do_not_go_round(self):
-        needs = {path.stem: {node.module.split(".")[1] for node in ast.walk(tree) if isinstance(node, ast.ImportFrom)}
+        needs = {path.stem: {node.module.split(".")[-1] for node in ast.walk(tree) if isinstance(node, ast.ImportFrom)}
                  for path, tree in trees()}
         while needs:
             free = [stem for stem in needs if not needs[stem] & set(needs)]
