@@ -9,6 +9,7 @@ from weirkeepers.meetings import pairs
 from weirkeepers.promises import Promise
 from weirkeepers.rights import Rights
 from weirkeepers.rivers import River
+from weirkeepers.sharings import Sharing
 
 ODD_VALUES = [None, True, False, 0, 1, -1, 10 ** 39, "", "A", "a b", "seaa", "nine letters", [], ["a"], (), ("a",),
               ("a", "sea"), [["a", ["b", None]]], "\n", "a1", " a", "abcdefghi"]
@@ -206,6 +207,15 @@ def two_knots():
                             ("b", "hi", "mid")])
     book = Book(rights, {"up": "ac", "low": "eca", "hi": "db", "mid": "ebd"})
     return book, Day(rights, {"a": 2, "c": 2, "d": 1, "b": 1, "e": 3}, {"up": 1, "low": 4, "hi": 1, "mid": 4})
+
+
+def long_wheel():
+    """A book, a day and two settled sharings, of a and b, and of c, d and e; all but e go round between them."""
+    river = River([("s", "sea"), ("t", "s"), ("u", "t"), ("v", "u"), ("w", "v"), ("x", "w"), ("y", "x")])
+    rights = Rights(river, [("e", "u", "u"), ("b", "v", "u"), ("d", "x", "v"), ("c", "w", "sea"), ("a", "y", "sea")])
+    book = Book(rights, {"y": "a", "x": "ad", "w": "acd", "v": "acdb", "u": "abce", "t": "ca", "s": "ac"})
+    day = Day(rights, {}, {"x": 1, "v": 2, "u": 2, "t": 1}, call=1, water=9)
+    return book, day, Sharing(rights, {"a": 1, "b": 1}), Sharing(rights, {"c": 1, "d": 1, "e": 1})
 
 
 def far():

@@ -34,6 +34,13 @@ def slow():
     return book, Day(book.rights, {}, {"up": 100, "low": 101}, call=1000)
 
 
+def late():
+    """A book and a day whose bounds meet after two rounds."""
+    rights = Rights(River([("w", "sea"), ("u", "w")]),
+                    [("a", "w", "sea"), ("b", "w", "w"), ("c", "u", "sea"), ("d", "u", "u")])
+    return Book.alike(rights, "abcd"), Day(rights, {}, {"w": 2, "u": 1}, call=1)
+
+
 def plain_bounds(book, day, rounds):
     """The lows, the highs and the number of rounds by the words of the point."""
     low = {name: 0 for name in book.rights.names}
@@ -71,10 +78,7 @@ class BoundsTest(Case):
         self.assertEqual(list(bounds(book, day).highs()), ["c", "b", "a"])
 
     def test_bounds_that_meet_late(self):
-        rights = Rights(River([("w", "sea"), ("u", "w")]),
-                        [("a", "w", "sea"), ("b", "w", "w"), ("c", "u", "sea"), ("d", "u", "u")])
-        book = Book.alike(rights, "abcd")
-        day = Day(rights, {}, {"w": 2, "u": 1}, call=1)
+        book, day = late()
         self.check(bounds(book, day, rounds=0), dict(a=0, b=0, c=0, d=0), dict(a=1, b=1, c=1, d=1), 0)
         self.check(bounds(book, day, rounds=1), dict(a=1, b=1, c=0, d=0), dict(a=1, b=1, c=0, d=1), 1)
         self.check(bounds(book, day, rounds=2), dict(a=1, b=1, c=0, d=1), dict(a=1, b=1, c=0, d=1), 2)
@@ -142,9 +146,23 @@ class BoundsTest(Case):
         self.assertFalse(bounds(met, Day(met.rights, {}, {}, call=1, water=2))
                          == bounds(met, Day(met.rights, {}, {}, call=1)))
         one = Day(met.rights, {"a": 1}, {"w": 9})
+        self.assertFalse(bounds(met, one, rounds=0) == bounds(met, one.with_call("a", 2), rounds=0))
         bent = met.bent(Promise("a", "b"))
         self.assertTrue(bounds(met, one, rounds=0) == bounds(bent, one, rounds=0))
         self.assertFalse(bounds(met, one) == bounds(bent, one, rounds=0))
+
+    def test_lows_highs_and_rounds_each_count(self):
+        book = unlike()
+        calls = {"a": 1, "b": 3}
+        wide = bounds(book, Day(book.rights, calls, {}, water=2), rounds=1)
+        met = bounds(Book.alike(book.rights, "ab"), Day(book.rights, calls, {}, water=3), rounds=1)
+        self.assertEqual((wide.highs(), wide.rounds), (met.highs(), met.rounds))
+        self.assertFalse(wide == met)
+        book, day = late()
+        quick = bounds(book, Day(book.rights, {"c": 0}, {}, call=1, water=9))
+        self.assertEqual((quick.lows(), quick.highs()), (bounds(book, day).lows(), bounds(book, day).highs()))
+        self.assertEqual((quick.rounds, bounds(book, day).rounds), (1, 2))
+        self.assertFalse(quick == bounds(book, day))
 
     def test_results_are_new(self):
         book, day = slow()

@@ -184,6 +184,25 @@ class KnotsTest(Case):
                 self.assertGreater(sum(lows[name] for name in book.rights.passing(why[1])), day.water(why[1]))
         self.assertEqual(sorts, {None, "weir", "knot"})
 
+    def test_a_knot_that_uses_too_much_at_one_of_its_weirs(self):
+        rights = Rights(River([("v", "w"), ("w", "sea")]), [("d", "v", "v"), ("a", "v", "sea"), ("b", "w", "w"), ("c", "w", "w")])
+        book = Book(rights, {"v": "ad", "w": "abc"}, [Promise("a", "c", "w")])
+        day = Day(rights, {}, {"v": 3, "w": 2}, call=5)
+        knot, = knots(book, day)
+        self.assertEqual((knot.names, knot.choices), (("d", "a", "b", "c"), ()))
+        self.assertEqual(steady(book, day).highs(), {"d": 3, "a": 2, "b": 2, "c": 2})
+        whole = {"d": 2, "a": 1, "b": 1, "c": 1}
+        self.assertEqual(step(book, day, whole), whole)
+
+    def test_choices_do_not_look_at_other_weirs(self):
+        book, day = two_knots()
+        rights = Rights(River(book.river.rows() + [("ring", "sea")]),
+                        book.rights.rows() + [(name, "ring", "ring") for name in "xyz"])
+        wide = Book(rights, book.orders() | {"ring": "xyz"}, [Promise("x", "z")])
+        dry = Day(rights, day.calls() | {"x": 1, "y": 1, "z": 1}, day.waters() | {"ring": 2})
+        self.assertEqual(why_none(wide, dry), ("weir", "ring"))
+        self.assertEqual(knots(wide, dry), knots(book, day))
+
     def test_weirs_come_before_knots(self):
         book, day = unsound()
         self.assertEqual([knot.names for knot in knots(book, day)], [("e", "f", "g")])

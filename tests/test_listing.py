@@ -136,7 +136,11 @@ class ListingTest(Case):
                 self.assertEqual(listing.places("d", value), ())
             if value != "a":
                 self.fails(NoRight(value), listing.places, value, 1)
+            if value != "a":
+                self.fails(NoRight(value), listing.places, value, value)
+                self.fails(NoRight(value), Listing(*none_day()).places, value, 1)
         self.assertEqual((listing.places("d", True), listing.places("d", False)), ((), ()))
+        self.assertEqual(Listing(*none_day()).places("a", 1), ())
 
     def test_equality_of_unlike_books(self):
         book, day = example()

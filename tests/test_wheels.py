@@ -4,8 +4,8 @@ import itertools
 import random
 import unittest
 
-from tests.samples import (Case, ODD_VALUES, around, crowded_rights, example, far, many_books, one_weir, some_orders,
-                           three_ends, two_knots)
+from tests.samples import (Case, ODD_VALUES, around, crowded_rights, example, far, long_wheel, many_books, one_weir,
+                           some_orders, three_ends, two_knots)
 from weirkeepers.books import Book
 from weirkeepers.days import Day
 from weirkeepers.errors import NotSettled, TooMany
@@ -112,6 +112,20 @@ class WheelTest(Case):
         one, other = shared(book, 0, 2, 4, 12), shared(book, 2, 0, 9, 7)
         self.assertEqual(wheel(book, day, one, other), (("c", "b", "b"), ("b", "c", "c")))
         self.assertEqual(wheel(book, day, other, one), (("b", "c", "c"), ("c", "b", "b")))
+
+    def test_four_rows(self):
+        book, day, one, other = long_wheel()
+        rows = (("d", "x", "a"), ("a", "t", "c"), ("c", "u", "b"), ("b", "v", "d"))
+        self.assertEqual(wheel(book, day, one, other), rows)
+        self.assertEqual(wheel(book, day, other, one), rows[3:] + rows[:3])
+        self.assertIs(is_wheel(book, day, one, other, rows), True)
+        self.assertEqual(plain_wheel(book, day, one, other), rows)
+
+    def test_begin_with_the_first_right_that_gains(self):
+        book, day = two_knots()
+        one, other = shared(book, 0, 0, 1, 3, 1), shared(book, 1, 1, 0, 3, 0)
+        self.assertEqual(wheel(book, day, one, other), (("a", "low", "c"), ("c", "up", "a")))
+        self.assertIs(is_wheel(book, day, one, other, (("d", "mid", "b"), ("b", "hi", "d"))), True)
 
     def test_errors_the_first_sharing_first(self):
         book, day = example()

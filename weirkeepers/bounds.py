@@ -54,10 +54,10 @@ def bounds(book, day, *, rounds=60):
     made = 0
     while made < rounds:
         new_lows = stepped(keepers, highs)
-        new_highs = stepped(keepers, new_lows)
-        if new_lows == lows and new_highs == highs:
+        # The highs are the step of the lows, so they change with these alone.
+        if new_lows == lows:
             break
         lows = new_lows
-        highs = new_highs
+        highs = stepped(keepers, lows)
         made = made + 1
     return Bounds(book.rights, lows, highs, made)

@@ -3,7 +3,6 @@
 from math import comb
 
 from weirkeepers.errors import TooMany
-from weirkeepers.table import need_gate
 from weirkeepers.walk import Walk
 
 MOST_WAYS = 4096
@@ -43,7 +42,6 @@ def paired(book, day, door):
     """A list of pairs of ends, one for each road through the door; the first begins at the start, told as None."""
     walk = Walk(book, day)
     found = _all_ends(walk)
-    need_gate(walk.table, door)
     pairs_found = [(None, walk.road(door).end)]
     for one in found:
         other = walk.road(door, one).end

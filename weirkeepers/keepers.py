@@ -1,6 +1,6 @@
 """Keepers: what each right gets by the amounts of those that go ahead of it."""
 
-from weirkeepers.checks import is_whole, need_right
+from weirkeepers.checks import is_whole
 from weirkeepers.errors import NotSharing
 
 MOST_AMOUNT = 10 ** 31
@@ -35,9 +35,8 @@ class Keeper:
     """Gives one right the least of its call and the offers of the weirs of its way."""
 
     def __init__(self, book, day, name):
-        need_right(book.rights, name)
-        self.name = name
         self.heeds = heeded(book, name)
+        self.name = name
         self._rights = book.rights
         self._call = day.call(name)
         self._weirs = tuple([(day.water(weir), book.ahead_at(weir, name)) for weir in book.rights.way(name)])

@@ -124,7 +124,6 @@ def hold_of(ladders, columns):
 
 def first_hold(ladders, door):
     """The spares but the door's, and the right that is highest on the ladder of the door; None without rights."""
-    need_gate(ladders.table, door)
     rows = [column for column in ladders.ladder(door) if column[0] == "right"]
     if not rows:
         return None

@@ -53,7 +53,7 @@ class Listing:
         return self._sharings[at]
 
     def __contains__(self, x):
-        return isinstance(x, Sharing) and x in self._sharings
+        return x in self._sharings
 
     def places(self, name, cubes):
         """The tuple of the places of the sharings that give the right exactly these cubes."""

@@ -1,6 +1,5 @@
 """Settled sharings: each right that lacks something is barred at a full weir."""
 
-from weirkeepers.checks import need_right
 from weirkeepers.sharings import fits
 
 
@@ -12,7 +11,6 @@ def _all_ahead(book, sharing, weir, name):
 
 def bar(book, day, sharing, name):
     """What keeps the right from more: ("call", name), ("weir", weir), or None if it is open."""
-    need_right(book.rights, name)
     if sharing[name] == day.call(name):
         return "call", name
     for weir in book.rights.way(name):

@@ -67,8 +67,9 @@ def is_line(book, thing):
     rights = book.rights
     if not isinstance(thing, (list, tuple)) or len(thing) != len(rights):
         return False
-    if not all([name in rights for name in thing]) or len(set(thing)) < len(thing):
+    if not all([name in rights for name in thing]):
         return False
+    # A right that stands there twice does not go ahead of itself.
     for place, one in enumerate(thing):
         for other in thing[place + 1:]:
             if not all([book.goes_ahead(weir, one, other) for weir in meet(rights, one, other)]):
