@@ -10,6 +10,7 @@ from weirkeepers.books import Book
 from weirkeepers.days import Day
 from weirkeepers.ends import ends, paired, reached
 from weirkeepers.errors import NotColumn, RingError, TooMany
+from weirkeepers.promises import Promise
 from weirkeepers.rights import Rights
 from weirkeepers.rings import rings
 from weirkeepers.rivers import River
@@ -111,7 +112,7 @@ class EndsTest(Case):
         self.fails(error, reached, book, day)
         self.fails(error, paired, book, day, "zz")
         rights = Rights(River([("w", "sea")]), [(name, "w", "w") for name in "abcdefgh"])
-        wide = Book.alike(rights, "abcdefgh").bent(*around().bent()._own_promises())
+        wide = Book.alike(rights, "abcdefgh").bent(Promise("a", "c"))
         self.fails(error, ends, wide, Day(rights, {}, {}))
         self.fails(error, paired, wide, Day(rights, {}, {}), None)
 

@@ -152,8 +152,8 @@ class StepTest(Case):
         given = step(fork_book(), fork_day(), amounts_of(1, 1, 3, 3, 3))
         self.assertEqual(given, {"p": 2, "q": 0, "r": 4, "s": 1, "sea": 5})
         self.assertEqual(list(given), ["p", "q", "r", "s", "sea"])
-        self.assertEqual(step(amounts={"a": 1, "b": 1}, book=unlike(), day=Day(unlike().rights, {}, {}, call=2, water=2)),
-                         {"a": 1, "b": 1})
+        day = Day(unlike().rights, {}, {}, call=2, water=2)
+        self.assertEqual(step(amounts={"a": 1, "b": 1}, book=unlike(), day=day), {"a": 1, "b": 1})
         nobody = Book(one_weir(), {})
         self.assertEqual(step(nobody, Day(nobody.rights, {}, {}), {}), {})
         self.assertIs(is_rest(nobody, Day(nobody.rights, {}, {}), {}), True)

@@ -65,7 +65,8 @@ def plain_choices(book, day, names, loose):
     for cubes in itertools.product(*[range(found.low(name), found.high(name) + 1) for name in names]):
         amounts = found.lows() | dict(zip(names, cubes))
         kept = all(Keeper(book, day, name)(amounts) == amounts[name] for name in names)
-        uses = [(weir, sum(amounts[other] for other in book.rights.passing(weir) if other in names or other not in loose))
+        counted = [name for name in book.rights if name in names or name not in loose]
+        uses = [(weir, sum(amounts[other] for other in book.rights.passing(weir) if other in counted))
                 for weir in book.river if any(book.rights.passes(name, weir) for name in names)]
         if kept and all(use <= day.water(weir) for weir, use in uses):
             choices.append(cubes)
@@ -159,7 +160,8 @@ class KnotsTest(Case):
         line = Book.alike(unlike().rights, "ba")
         self.assertEqual((knots(line, far()[1]), why_none(line, far()[1])), ([], None))
         nobody = Book(one_weir(), {})
-        self.assertEqual((knots(nobody, Day(nobody.rights, {}, {})), why_none(nobody, Day(nobody.rights, {}, {}))), ([], None))
+        day = Day(nobody.rights, {}, {})
+        self.assertEqual((knots(nobody, day), why_none(nobody, day)), ([], None))
 
     def test_a_knot_without_a_choice(self):
         book = around()
@@ -185,7 +187,8 @@ class KnotsTest(Case):
         self.assertEqual(sorts, {None, "weir", "knot"})
 
     def test_a_knot_that_uses_too_much_at_one_of_its_weirs(self):
-        rights = Rights(River([("v", "w"), ("w", "sea")]), [("d", "v", "v"), ("a", "v", "sea"), ("b", "w", "w"), ("c", "w", "w")])
+        rights = Rights(River([("v", "w"), ("w", "sea")]),
+                        [("d", "v", "v"), ("a", "v", "sea"), ("b", "w", "w"), ("c", "w", "w")])
         book = Book(rights, {"v": "ad", "w": "abc"}, [Promise("a", "c", "w")])
         day = Day(rights, {}, {"v": 3, "w": 2}, call=5)
         knot, = knots(book, day)

@@ -93,7 +93,8 @@ class LaddersTest(Case):
         self.assertEqual(ladders.ladder(("weir", "low")), (
             ("weir", "low"), right("d"), right("b"), right("a"), right("c"), ("weir", "up"), *spares[2:]))
         self.assertEqual(ladders.ladder(call("b")), (
-            call("b"), right("b"), right("d"), right("c"), right("a"), *[spare for spare in spares if spare != call("b")]))
+            call("b"), right("b"), right("d"), right("c"), right("a"),
+            *[spare for spare in spares if spare != call("b")]))
 
     def test_by_the_words(self):
         for _, ladders in some_ladders(60, 5, 6):
@@ -191,7 +192,8 @@ class HoldTest(Case):
         for columns in itertools.permutations([right("a"), call("b"), right("b")]):
             for given in (columns, list(columns)):
                 self.assertEqual(hold_of(two_ladders(), given).columns, (call("b"), right("a"), right("b")))
-        for columns in [[], [W], [W, call("a"), call("b")], [right("a"), right("b")], [W, right("a"), right("b"), call("a")]]:
+        for columns in [[], [W], [W, call("a"), call("b")], [right("a"), right("b")],
+                        [W, right("a"), right("b"), call("a")]]:
             self.assertIsNone(hold_of(ladders=two_ladders(), columns=columns))
         for value in ODD_COLUMNS + [right("a")]:
             if value != W:
@@ -263,7 +265,8 @@ class HoldTest(Case):
     def test_equality(self):
         ladders = two_ladders()
         other = Ladders(Book.alike(one_weir("a", "b"), "ba"), Table(two_day()))
-        ones = [first_hold(ladders, W), first_hold(ladders, call("a")), hold_of(other, [call("a"), call("b"), right("b")]),
+        ones = [first_hold(ladders, W), first_hold(ladders, call("a")),
+                hold_of(other, [call("a"), call("b"), right("b")]),
                 first_hold(Ladders(two_book(), Table(two_day().with_call("b", 3))), W)]
         for place, hold in enumerate(ones):
             self.equals_nothing_else(hold, *(ones[:place] + ones[place + 1:]))

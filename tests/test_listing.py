@@ -144,7 +144,8 @@ class ListingTest(Case):
 
     def test_equality_of_unlike_books(self):
         book, day = example()
-        ones = [Listing(book, day), Listing(Book.alike(book.rights, "ab"), day), Listing(Book.alike(book.rights, "ba"), day),
+        ones = [Listing(book, day), Listing(Book.alike(book.rights, "ab"), day),
+                Listing(Book.alike(book.rights, "ba"), day),
                 Listing(book, day.with_call("a", 1)), Listing(*two_knots()), Listing(*none_day())]
         for place, listing in enumerate(ones):
             self.equals_nothing_else(listing, *(ones[:place] + ones[place + 1:]), list(listing), tuple(listing))

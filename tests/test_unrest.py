@@ -65,7 +65,8 @@ class TierTest(Case):
             self.assertEqual(calm(book), tuple(name for name in names if tiers[name] is not None))
             self.assertEqual(restless(book), tuple(name for name in names if tiers[name] is None))
             self.assertEqual(len(calm(book)) == len(names), judge(book).kind == Kind.ONE)
-            loud = {name for row in rings(book) for name in row[1:]} | {name for row in quarrels(book) for name in row[:2]}
+            loud = {name for row in rings(book) for name in row[1:]}
+            loud |= {name for row in quarrels(book) for name in row[:2]}
             while any(name not in loud and loud & set(heeded(book, name)) for name in names):
                 loud |= {name for name in names if loud & set(heeded(book, name))}
             self.assertEqual(set(restless(book)), loud)

@@ -218,7 +218,8 @@ class IsWheelTest(Case):
         self.assertIs(is_wheel(book, day, one, other, three), False)
         ring = (("a", "w", "c"), ("b", "w", "a"), ("c", "w", "b"))
         wide = around()
-        self.assertIs(is_wheel(wide, Day(wide.rights, {}, {}), shared(wide, 1, 0, 0), shared(wide, 0, 1, 0), ring), False)
+        dry = Day(wide.rights, {}, {})
+        self.assertIs(is_wheel(wide, dry, shared(wide, 1, 0, 0), shared(wide, 0, 1, 0), ring), False)
 
     def test_by_the_words(self):
         right_ones = 0
