@@ -1,5 +1,6 @@
 """What several tests share: a case that knows errors, and rivers and rights to try things on."""
 
+import itertools
 import random
 import unittest
 
@@ -9,7 +10,9 @@ from weirkeepers.meetings import pairs
 from weirkeepers.promises import Promise
 from weirkeepers.rights import Rights
 from weirkeepers.rivers import River
-from weirkeepers.sharings import Sharing
+from weirkeepers.sharings import Sharing, fits
+from weirkeepers.verdict import Kind, judge
+from weirkeepers.worths import Worths
 
 ODD_VALUES = [None, True, False, 0, 1, -1, 10 ** 39, "", "A", "a b", "seaa", "nine letters", [], ["a"], (), ("a",),
               ("a", "sea"), [["a", ["b", None]]], "\n", "a1", " a", "abcdefghi"]
@@ -222,3 +225,36 @@ def far():
     """A book and a day with a room above 4096: the two may share 10 ** 30 cubes in any way."""
     book = unlike()
     return book, Day(book.rights, {}, {}, call=10 ** 30, water=10 ** 30)
+
+
+def fitting(day):
+    """All sharings that fit a small day."""
+    names = day.rights.names
+    rows = itertools.product(*[range(day.call(name) + 1) for name in names])
+    sharings = [Sharing(day.rights, dict(zip(names, row))) for row in rows]
+    return [sharing for sharing in sharings if fits(day, sharing)]
+
+
+def some_worths(dice, rights, most=9):
+    """A worth up to `most` for each right, the keys added in any order."""
+    names = list(rights.names)
+    dice.shuffle(names)
+    return Worths(rights, {name: dice.randint(1, most) for name in names})
+
+
+def first_books(count, most_weirs=5, most=5, cubes=3):
+    """A list of (dice, book, day) with books of the first kind."""
+    rows = many_books(count, most_weirs, most, cubes)
+    return [row for row in rows if judge(row[1]).kind == Kind.ONE]
+
+
+def small_days(rights, calls=1, waters=1):
+    """All days with calls and waters up to these."""
+    weirs = rights.river.weirs
+    for row in itertools.product(*[range(calls + 1)] * len(rights), *[range(waters + 1)] * len(weirs)):
+        yield Day(rights, dict(zip(rights.names, row)), dict(zip(weirs, row[len(rights):])))
+
+
+def wrong_kinds():
+    """A book of each kind but the first, with its kind."""
+    return [(unlike(), Kind.SOME), (around(), Kind.NONE)]

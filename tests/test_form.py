@@ -16,7 +16,7 @@ METHODS = {
     "__init__", "__eq__", "__len__", "__iter__", "__contains__", "__getitem__", "__add__",
     "__call__",
 }
-LIBRARY = {"math": {"comb"}}
+LIBRARY = {"math": {"comb", "gcd"}}
 DECORATORS = {"property", "classmethod", "staticmethod"}
 BARRED = {
     "type", "typing", "enum", "Enum", "Flag", "Generic", "Protocol", "ABC", "namedtuple", "mro", "register",
@@ -155,6 +155,42 @@ INTERFACE = {
         "sure": "book day", "possible": "book day", "unsure": "book day",
         "best_for": "book day *names least=False", "regrets": "book day sharing", "fairest": "book day",
         "sure_table": "book day"},
+    "worths": {
+        "Worths": {
+            "__init__": "self rights worths", "__getitem__": None, "__len__": None, "__iter__": None, "__eq__": None,
+            "worth_of": "self sharing"},
+        "way_price": "rights prices name", "rent": "worths prices name", "ceiling": "day worths prices"},
+    "best": {
+        "best": "day worths", "Best": {"prices": "self", "rents": "self", "__eq__": None},
+        "flaw": "day worths sharing prices", "price_range": "day worths weir"},
+    "bills": {"bill": "day worths prices sharing"},
+    "trades": {
+        "Trade": {
+            "__init__": "self rights plus minus", "__eq__": None, "change": "self weir", "is_simple": "self",
+            "gain": "self worths", "most": "self day sharing", "done": "self sharing times", "back": "self"},
+        "trade": "day worths sharing", "steps": "one other"},
+    "everyday": {
+        "is_cover": "book name cover", "cover_day": "book name cover", "dearest_cover": "book worths name",
+        "order_price": "book worths", "OrderPrice": {"cover": "self", "is_free": "self"},
+        "most_worth_bound": "book worths sharing"},
+    "ordercosts": {"order_cost": "book day worths"},
+    "widening": {
+        "Change": {
+            "__init__": "self before after", "__eq__": None, "gain": "self name", "winners": "self", "losers": "self",
+            "total": "self"},
+        "Harm": {
+            "__init__": "self harmed harmer weir beyond before after", "__eq__": None, "told": "self",
+            "played": "self book"},
+        "Widening": {"told": "self"},
+        "widening_harm": "book name", "by_widening": "book", "is_widening": "book thing",
+        "widened_change": "book day weir cubes=1", "reached": "book day weir"},
+    "rain": {
+        "Rain": {"told": "self"}, "rain_harm": "book name", "by_rain": "book", "is_rain": "book thing",
+        "rain_change": "book day weir cubes=1", "spared": "book"},
+    "twobooks": {
+        "Parting": {"__init__": "self weir one other day first second", "__eq__": None},
+        "differences": "book other", "agree": "book other", "parted": "book other",
+        "is_difference": "book other thing", "same_on": "book other day", "turning": "book other"},
 }
 
 

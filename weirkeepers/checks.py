@@ -34,6 +34,12 @@ def need_weir(river, weir):
         raise NoWeir(weir)
 
 
+def need_weirs(river, weirs):
+    """Raises NoWeir for the first of the weirs that is none."""
+    for weir in weirs:
+        need_weir(river, weir)
+
+
 def need_right(rights, name):
     """Raises NoRight if there is no such right."""
     if name not in rights:
