@@ -6,11 +6,13 @@ import unittest
 
 from weirkeepers.books import Book
 from weirkeepers.days import Day
+from weirkeepers.entries import CallTold, FishOrder, Pledge, Release, SpringRead
 from weirkeepers.meetings import pairs
 from weirkeepers.promises import Promise
 from weirkeepers.rights import Rights
 from weirkeepers.rivers import River
 from weirkeepers.sharings import Sharing, fits
+from weirkeepers.tanks import Tanks
 from weirkeepers.verdict import Kind, judge
 from weirkeepers.worths import Worths
 
@@ -258,3 +260,45 @@ def small_days(rights, calls=1, waters=1):
 def wrong_kinds():
     """A book of each kind but the first, with its kind."""
     return [(unlike(), Kind.SOME), (around(), Kind.NONE)]
+
+
+def some_tanks(dice, rights):
+    """Tanks of some of the rights that are not given back, the keys added in any order."""
+    names = [name for name in rights if not rights.is_given_back(name) and dice.random() < 0.7]
+    dice.shuffle(names)
+    return Tanks(rights, {name: dice.choice([1, 2, 5, 10 ** 20]) for name in names})
+
+
+def some_entries(dice, tanks, count, days, knowns=6):
+    """Up to `count` entries of all kinds that can be told of these tanks, in any order."""
+    rights = tanks.rights
+    entries = []
+    for _ in range(count):
+        day, number, amount = dice.randrange(days), dice.randint(0, 1), dice.randint(0, 6)
+        known = dice.randint(0, knowns)
+        sort = dice.randint(0, 4)
+        weir = dice.choice(rights.river.weirs)
+        if sort == 0:
+            entries.append(SpringRead(day, max(day, known), number, weir, amount))
+        elif sort == 1:
+            entries.append(FishOrder(day, known, number, weir, dice.randint(0, 2)))
+        elif sort == 2 and len(rights):
+            entries.append(CallTold(day, known, number, dice.choice(rights.names), amount))
+        elif sort == 3 and len(tanks):
+            entries.append(Release(day, max(day, known), number, dice.choice(tanks.names), dice.randint(0, 3)))
+        elif len(rights):
+            giver, taker = dice.choice(rights.names), dice.choice(rights.names)
+            entries.append(Pledge(day, known, number, giver, taker, dice.choice([None, weir])))
+    return entries
+
+
+def book_order(rights, entry):
+    """What sorts entries into book order, by the words of the interface."""
+    kind = ["spring", "fish", "call", "release", "pledge"].index(entry.KIND)
+    weirs, names = rights.river.weirs, rights.names
+    if kind == 4:
+        weir = -1 if entry.weir is None else weirs.index(entry.weir)
+        places = (names.index(entry.giver), names.index(entry.taker), weir)
+        return (entry.day, kind, places, entry.known, entry.number)
+    place = (weirs if kind < 2 else names).index(entry.name)
+    return (entry.day, kind, (place,), entry.known, entry.number, entry.amount)

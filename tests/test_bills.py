@@ -36,7 +36,8 @@ class BillTest(Case):
         rights, day, worths = small()
         sharing = Sharing(rights, {"a": 2, "b": 1, "c": 1})
         self.assertEqual(bill(day, worths, {"up": 1, "low": 7}, sharing), [
-            ("idle", "low", 2, 7), ("idle", "up", 1, 1), ("unmet", "a", 3, 2), ("dear", "c", 1, 2), ("dear", "b", 1, 3)])
+            ("idle", "low", 2, 7), ("idle", "up", 1, 1), ("unmet", "a", 3, 2), ("dear", "c", 1, 2),
+            ("dear", "b", 1, 3)])
         self.assertEqual(bill(sharing=sharing, prices={"up": 2}, worths=worths, day=day), [
             ("idle", "up", 1, 2), ("unmet", "c", 2, 4), ("unmet", "a", 3, 1), ("unmet", "b", 1, 4)])
 
@@ -48,7 +49,8 @@ class BillTest(Case):
                          [("idle", "low", 4, 99), ("idle", "up", 4, 99)])
         self.assertEqual(bill(day, worths, {}, Sharing(rights, {"a": 4})), [
             ("unmet", "c", 3, 6), ("unmet", "a", 1, 3), ("unmet", "b", 2, 4)])
-        self.assertEqual(bill(Day(one_weir(), {}, {"w": 2}), Worths(one_weir(), {}), {"w": 3}, Sharing(one_weir(), {})),
+        empty = one_weir()
+        self.assertEqual(bill(Day(empty, {}, {"w": 2}), Worths(empty, {}), {"w": 3}, Sharing(empty, {})),
                          [("idle", "w", 2, 3)])
 
     def test_a_sharing_that_does_not_fit(self):

@@ -23,6 +23,7 @@ BARRED = {
     "elements", "open", "input", "law", "compile", "copyright", "dir", "eval", "exec", "exit", "gc", "globals", "help",
     "id", "license", "locals", "os", "quit", "sys", "vars",
 }
+ENTRY = {"__init__": "self day known number name amount", "__eq__": None, "text": "self"}
 # Each file with its functions and classes; behind each method and function its parameters.
 INTERFACE = {
     "errors": {
@@ -191,6 +192,49 @@ INTERFACE = {
         "Parting": {"__init__": "self weir one other day first second", "__eq__": None},
         "differences": "book other", "agree": "book other", "parted": "book other",
         "is_difference": "book other thing", "same_on": "book other day", "turning": "book other"},
+    "lots": {
+        "least_lots": "book offers",
+        "Lots": {
+            "__len__": None, "__iter__": None, "kind_of": "self *places", "traps": "self", "is_monotone": "self",
+            "cheapest": "self costs"},
+        "idle": "book offers"},
+    "moves": {
+        "exchanged": "book one other", "blockers": "book one other", "free_pairs": "book",
+        "exchange_change": "book day one other", "turned_pairs": "book other", "exchanges": "book other",
+        "is_raised": "book other name", "open_places": "book weir name"},
+    "tanks": {
+        "Tanks": {
+            "__init__": "self rights rooms", "__eq__": None, "__contains__": None, "__len__": None,
+            "room": "self name", "left": "self name account released=0", "none": "rights"},
+    },
+    "entries": {
+        "Entry": {"__init__": "self day known number", "__eq__": None, "text": "self"},
+        "SpringRead": ENTRY, "FishOrder": ENTRY, "CallTold": ENTRY, "Release": ENTRY,
+        "Pledge": {
+            "__init__": "self day known number giver taker weir=None", "__eq__": None, "text": "self",
+            "promise": "self"},
+    },
+    "entrytext": {"read_entries": "text", "write_entries": "entries"},
+    "gauges": {
+        "Gauges": {
+            "__init__": "self tanks *entries", "__eq__": None, "__len__": None, "__iter__": None,
+            "__contains__": None, "tell": "self *entries", "standing": "self kind name day known=None",
+            "amount_of": "self kind name day known=None", "springs_on": "self day known=None",
+            "pledges": "self day known=None", "knowns": "self", "merged": "self *others"},
+    },
+    "ledger": {
+        "Ledger": {
+            "__init__": "self book gauges * days=12", "tell": "self *entries", "gauges": "self",
+            "book_on": "self day known=None", "page": "self day known=None", "pages": "self known=None"},
+        "Page": {"__eq__": None, "bar": "self name"},
+    },
+    "touched": {
+        "reach": "book names", "chain": "book names other", "moved_at_once": "tanks kind name",
+        "touched": "book tanks kind name", "Touch": {"__eq__": None}, "Paper": {},
+        "touch_paper": "book tanks kind name other * later=False"},
+    "reports": {
+        "statement": "ledger name known=None", "totals": "ledger known=None", "owing": "ledger known=None",
+        "revision": "ledger day old new", "restated": "ledger day"},
 }
 
 
@@ -281,8 +325,11 @@ class FormTest(unittest.TestCase):
 
     def test_only_plain_statements_and_expressions(self):
         barred = (ast.Global, ast.Nonlocal, ast.AsyncFunctionDef, ast.Await, ast.NamedExpr, ast.Lambda,
-                  ast.GeneratorExp, ast.Try, ast.With, ast.Match, ast.Starred, ast.AugAssign, ast.Assert, ast.AnnAssign)
+                  ast.GeneratorExp, ast.With, ast.Match, ast.AugAssign, ast.Assert, ast.AnnAssign)
         self.assertEqual([where for where, _ in nodes(*barred)], [])
+        passed = [part for _, node in nodes(ast.Call) for part in node.args if isinstance(part, ast.Starred)]
+        self.assertEqual(len(passed), len(nodes(ast.Starred)))
+        self.assertTrue(all(isinstance(part.value, ast.Name) for part in passed))
         for where, node in nodes(ast.Constant):
             self.assertIsInstance(node.value, (int, str, type(None)), where)
             if isinstance(node.value, str):
@@ -315,6 +362,16 @@ class FormTest(unittest.TestCase):
             for sign, right in zip(node.ops, node.comparators):
                 if isinstance(sign, (ast.Is, ast.IsNot)):
                     self.assertTrue(isinstance(right, ast.Constant) and right.value is None, where)
+
+    def test_own_errors_alone_are_caught(self):
+        own = {node.name for path, tree in trees() if path.stem == "errors" for node in tree.body
+               if isinstance(node, ast.ClassDef)}
+        for where, node in nodes(ast.Try):
+            self.assertEqual(node.finalbody + node.orelse, [], where)
+            for handler in node.handlers:
+                self.assertIsInstance(handler.type, ast.Name, where)
+                self.assertIn(handler.type.id, own, where)
+                self.assertIsNone(handler.name, where)
 
     def test_errors_are_made_where_they_are_raised(self):
         for where, node in nodes(ast.Raise):

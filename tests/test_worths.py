@@ -3,7 +3,8 @@
 import random
 import unittest
 
-from tests.samples import Case, ODD_VALUES, fitting, fork_rights, many_rights, one_weir, some_cubes, some_day, some_worths
+from tests.samples import (Case, ODD_VALUES, fitting, fork_rights, many_rights, one_weir, some_cubes, some_day,
+                           some_worths)
 from weirkeepers.days import Day
 from weirkeepers.errors import NoRight, NotWorths, NoWeir
 from weirkeepers.sharings import Sharing
