@@ -131,6 +131,10 @@ class BestTest(Case):
         others = [best(Day(rights, {"a": 3, "b": 2}, {"w": 3}), worths),
                   best(Day(rights, {"a": 3, "b": 2}, {"w": 4}), Worths(rights, {"a": 4, "b": 9})),
                   best(Day(one_weir("b", "a"), {"a": 3, "b": 2}, {"w": 4}), Worths(one_weir("b", "a"), dict(worths)))]
+        for a, b in [(6, 8), (5, 10)]:
+            others.append(best(Day(rights, {"a": 3, "b": 2}, {"w": 4}), Worths(rights, {"a": a, "b": b})))
+            self.assertEqual(others[-1].sharing, found.sharing)
+        self.assertEqual((others[-2].value, others[-1].prices()), (found.value, found.prices()))
         self.equals_nothing_else(found, found.sharing, *others)
 
     def test_results_are_new(self):

@@ -54,6 +54,7 @@ class TellTest(Case):
                                      Release(0, 0, 0, "q", 2)), 2)
         self.assertEqual((len(gauges), gauges.tell()), (3, 0))
         self.assertEqual(len(Gauges(tanks())), 0)
+        self.assertEqual(gauges.tell(CallTold(11, 99, 10 ** 6, "p", 10 ** 28), Pledge(11, 0, 0, "p", "q")), 2)
 
     def test_each_cause_in_its_order(self):
         fine = CallTold(0, 0, 0, "p", 1)

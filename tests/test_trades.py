@@ -108,7 +108,8 @@ class TradeTest(Case):
         made = Trade(rights, ["b", "c"], ["d"])
         self.assertEqual(made, Trade(one_weir("b", "c", "d"), ("c", "b"), ("d",)))
         self.equals_nothing_else(made, made.back(), Trade(rights, ["b"], ["d"]), Trade(rights, ["b", "c"], []),
-                                 Trade(one_weir("c", "b", "d"), ["b", "c"], ["d"]), (("b", "c"), ("d",)))
+                                 Trade(one_weir("c", "b", "d"), ["b", "c"], ["d"]), (("b", "c"), ("d",)),
+                                 Trade(one_weir("b", "c", "d", "e"), ["b", "c"], ["d"]))
 
     def test_later_changes_of_the_arguments(self):
         rights = one_weir("b", "c", "d")

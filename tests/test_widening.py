@@ -40,10 +40,10 @@ class ChangeTest(Case):
 
     def test_gains(self):
         rights = fork_rights()
-        change = Change(after=Sharing(rights, {"p": 3, "q": 1, "s": 2, "sea": MUCH}),
+        change = Change(after=Sharing(rights, {"p": 2, "q": 1, "s": 2, "sea": MUCH}),
                         before=Sharing(rights, {"p": 1, "q": 2, "r": 4, "s": 2}))
-        self.assertEqual([change.gain(name) for name in rights], [2, -1, -4, 0, MUCH])
-        self.assertEqual((change.winners, change.losers, change.total), (("p", "sea"), ("q", "r"), MUCH - 3))
+        self.assertEqual([change.gain(name) for name in rights], [1, -1, -4, 0, MUCH])
+        self.assertEqual((change.winners, change.losers, change.total), (("p", "sea"), ("q", "r"), MUCH - 4))
         self.assertEqual((change.before["r"], change.after["r"]), (4, 0))
         for value in ODD_VALUES:
             self.fails(NoRight(value), change.gain, value)
@@ -54,7 +54,8 @@ class ChangeTest(Case):
         rights = one_weir("b", "c")
         one, other = Sharing(rights, {"b": 1}), Sharing(rights, {"c": 1})
         self.assertEqual(Change(one, other), Change(Sharing(rights, {"b": 1}), Sharing(rights, {"c": 1})))
-        self.equals_nothing_else(Change(one, other), Change(other, one), Change(one, one), (one, other))
+        self.equals_nothing_else(Change(one, other), Change(other, one), Change(one, one), Change(other, other),
+                                 (one, other))
 
 
 class HarmTest(Case):

@@ -43,14 +43,14 @@ class Entry:
         """A tuple of all that the entry tells, its kind first."""
         return (self.KIND, self.day, self.known, self.number) + self._words
 
-    def line(self):
+    def as_line(self):
         """The text of the entry."""
         words = " ".join((self.KIND,) + self._words)
         return f"{words} on {self.day} known {self.known} number {self.number}"
 
     def text(self):
         """The line of the entry."""
-        return self.line()
+        return self.as_line()
 
     def take(self, name, amount):
         """Keeps the name and the amount of an entry that has them."""
@@ -77,7 +77,7 @@ class SpringRead(Entry):
 
     def text(self):
         """The line of the entry."""
-        return self.line()
+        return self.as_line()
 
 
 class FishOrder(Entry):
@@ -94,7 +94,7 @@ class FishOrder(Entry):
 
     def text(self):
         """The line of the entry."""
-        return self.line()
+        return self.as_line()
 
 
 class CallTold(Entry):
@@ -111,7 +111,7 @@ class CallTold(Entry):
 
     def text(self):
         """The line of the entry."""
-        return self.line()
+        return self.as_line()
 
 
 class Release(Entry):
@@ -129,7 +129,7 @@ class Release(Entry):
 
     def text(self):
         """The line of the entry."""
-        return self.line()
+        return self.as_line()
 
 
 class Pledge(Entry):
@@ -153,7 +153,7 @@ class Pledge(Entry):
 
     def text(self):
         """The line of the entry."""
-        return self.line()
+        return self.as_line()
 
     def promise(self):
         """The promise that is made."""

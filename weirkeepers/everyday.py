@@ -20,7 +20,7 @@ def _is_covering(book, name, cover, other):
 def is_cover(book, name, cover):
     """True if the dict is a cover of the right."""
     need_right(book.rights, name)
-    return all([other in book.rights and _is_covering(book, name, cover, other) for other in cover])
+    return all([_is_covering(book, name, cover, other) for other in cover])
 
 
 def cover_day(book, name, cover):

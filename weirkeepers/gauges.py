@@ -60,7 +60,7 @@ def _places(rights, entry):
     """The tuple of the places of the rights and the weir that the entry names; no weir is before all weirs."""
     rows = tuple([rights.names.index(name) for name in _rights_named(entry)])
     weirs = tuple([rights.river.weirs.index(weir) for weir in _weirs_named(entry)])
-    return rows + (weirs if weirs or entry.KIND != PLEDGE else (-1,))
+    return rows + (weirs if weirs else (-1,))
 
 
 def _key(rights, entry):

@@ -40,25 +40,39 @@ class Page:
         return bar(self.book, self.today, self.sharing, name)
 
 
+class Rules:
+    """The book by which a day goes, the pledges that have been tried for it, and those of them that are void."""
+
+    def __init__(self, book, tried, void):
+        self.book = book
+        self.tried = tried
+        self.void = void
+        self.line = judge(book).line
+
+
 def _pledged(book, pledge):
     """The book with the pledge, or None if there is no such book or three rights go round in it."""
+    promise = pledge.promise()
     try:
-        bent = book.bent(pledge.promise())
+        bent = book.bent(promise)
     except NotBook:
         return None
-    return bent if first_ring(bent) is None else None
+    # The book had no ring, so there is one only where the promise holds.
+    weirs = [row[0] for row in promise.said(book.rights)]
+    return None if any([bent.ranked(weir) is None for weir in weirs]) else bent
 
 
-def _kept(book, pledges):
-    """The book with all pledges that it can take one after another, and the tuple of the void ones."""
-    void = []
-    for pledge in pledges:
+def _gone_on(rules, pledges):
+    """The rules for these pledges, the first of which have been tried already."""
+    book = rules.book
+    void = list(rules.void)
+    for pledge in pledges[len(rules.tried):]:
         pledged = _pledged(book, pledge)
         if pledged is None:
             void.append(pledge)
         else:
             book = pledged
-    return book, tuple(void)
+    return Rules(book, pledges, tuple(void))
 
 
 class Ledger:
@@ -79,6 +93,8 @@ class Ledger:
         self.tanks = gauges.tanks
         self.days = days
         self._gauges = gauges.merged()
+        self._first = Rules(book, [], ())
+        self._rules = {}
 
     def tell(self, *entries):
         """Adds entries; returns how many were not there already."""
@@ -103,7 +119,8 @@ class Ledger:
         """A tuple of the book of the page and the tuple of its void pledges."""
         self._need_day(day)
         self._need_known(known)
-        return _kept(self.book, self._gauges.pledges(day, known))
+        rules = self._rules_of(day, known)
+        return rules.book, rules.void
 
     def page(self, day, known=None):
         """The page of the day, as known by some day."""
@@ -120,21 +137,25 @@ class Ledger:
         """A list of the pages from day 0 to the last one: each morning's accounts come from the page before."""
         pages = []
         accounts = {name: 0 for name in self.tanks.names}
-        pledges = []
-        book = self.book
-        void = ()
-        line = judge(book).line
         for day in range(last + 1):
-            told = self._gauges.pledges(day, known)
-            # Without new pledges the book of the day before holds.
-            if told != pledges:
-                pledges = told
-                book, void = _kept(self.book, pledges)
-                line = judge(book).line
-            page = self._page(day, known, accounts, (book, void, line))
+            page = self._page(day, known, accounts)
             accounts = page.after
             pages.append(page)
         return pages
+
+    def _rules_of(self, day, known):
+        """The rules of a day, as known by some day."""
+        pledges = self._gauges.pledges(day, known)
+        # Pledges that are known later are tried later. So those that were tried for this day or the day before
+        # are often the first of these, and need not be tried again.
+        rows = [self._first] + [self._rules[at] for at in (day - 1, day) if at in self._rules]
+        rows = [rules for rules in rows if rules.tried == pledges[:len(rules.tried)]]
+        sizes = [len(rules.tried) for rules in rows]
+        rules = rows[sizes.index(max(sizes))]
+        if len(rules.tried) < len(pledges):
+            rules = _gone_on(rules, pledges)
+        self._rules[day] = rules
+        return rules
 
     def _today(self, day, known, springs, rooms):
         """The calls and waters of a day; who has a tank calls for at most the room that is left."""
@@ -143,14 +164,14 @@ class Ledger:
         calls = {name: min(told[name], rooms.get(name, told[name])) for name in names}
         return Day.of(self.book.rights, calls, springs)
 
-    def _page(self, day, known, before, rules):
-        """The page of the day, by the accounts of its morning and the book, the void pledges and the line."""
-        book, void, line = rules
+    def _page(self, day, known, before):
+        """The page of the day, by the accounts of its morning."""
+        rules = self._rules_of(day, known)
         springs = self._gauges.springs_on(day, known)
         released = {name: self._gauges.amount_of("release", name, day, known) for name in before}
         rooms = {name: self.tanks.left(name, before[name], released[name]) for name in before}
         today = self._today(day, known, springs, rooms)
         # Only a book of the first kind has a line.
-        sharing = walked(book, today) if line is None else deal(today, line)
+        sharing = walked(rules.book, today) if rules.line is None else deal(today, rules.line)
         after = {name: before[name] - released[name] + sharing[name] for name in before}
-        return Page(day, book, void, dict(before), released, springs, today, sharing, after)
+        return Page(day, rules.book, rules.void, dict(before), released, springs, today, sharing, after)
