@@ -106,11 +106,10 @@ class Lots:
         for place, cost in enumerate(costs):
             if not is_cubes(cost):
                 raise NotLots(place)
-        rows = [(sum([costs[place] for place in lot]), at) for at, lot in enumerate(self.least)]
-        if not rows:
+        sums = [sum([costs[at] for at in lot]) for lot in self.least]
+        if not sums:
             return None
-        cost, at = min(rows)
-        return cost, self.least[at]
+        return min(sums), self.least[sums.index(min(sums))]
 
 
 def least_lots(book, offers):
